@@ -178,7 +178,7 @@ func TestGrant(t *testing.T) {
 	a.Boot(1)
 	for _, c := range []struct{ sent, until, now, since, end int }{
 		{2, 3, 3, 0, 0}, {2, 10, 3, 2, 10}, {4, 10, 5, 2, 10}, {4, 9, 5, 2, 10}, {5, 12, 5, 2, 12}, {11, 20, 11, 2, 20},
-		{15, 20, 20, 2, 20}, {15, 21, 20, 15, 21}, {99, 140, 30, 99, 140}, {40, 150, 139, 99, 150},
+		{15, 20, 20, 2, 20}, {15, 19, 21, 2, 20}, {16, 22, 22, 2, 20}, {15, 23, 22, 15, 23}, {99, 140, 30, 99, 140}, {40, 150, 139, 99, 150},
 	} {
 		a.Hear(grant(1, c.sent, c.until), c.now)
 		if since, end := a.Lease(); since != c.since || end != c.end {
@@ -264,6 +264,11 @@ func TestDurations(t *testing.T) {
 	end(2, 7, 3, 7)
 	end(3, 3, 3, 7)
 	end(100, 7, 3, 7)
+	end(1, 3, 3, 7, 9)
+	end(2, 7, 3, 7, 9)
+	end(3, 9, 3, 7, 9)
+	end(6, 9, 3, 7, 9)
+	end(100, 3, 3, 7, 9)
 	end(1, 1000, 1<<40)
 	work := []int{3}
 	a := agent.New(0, whole, work)
@@ -329,6 +334,17 @@ func TestAck(t *testing.T) {
 	says(t, a, 13, report(1, 1, api.HowWall))
 	a.Hear(ack(1, 1, 1), 14)
 	says(t, a, 99)
+	for how, work := range []int{50, 2, 50, 50} {
+		a = up(t, work)
+		a.Hear(launch(1, 1, 1, 4, 3, 1), 6)
+		if how == api.HowGone {
+			a.Hear(kill(1, 1, 1), 7)
+		}
+		if how > 0 {
+			a.Hear(ack(1, 1, 1), 10)
+			says(t, a, 10)
+		}
+	}
 }
 
 func TestHearSettlesFirst(t *testing.T) {

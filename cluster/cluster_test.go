@@ -129,6 +129,8 @@ func TestErrors(t *testing.T) {
 	}
 	do(t, c, cluster.CrashNode, 0, 0)
 	do(t, c, cluster.CrashControl, 0, 0, 1)
+	do(t, c, cluster.BootNode, 0)
+	do(t, c, cluster.BootControl, 0, 1)
 	asks(t, c, 4, make([]byte, api.MaxText+1), api.ErrLimit)
 	asks(t, c, 4, nil, api.OK)
 	asks(t, c, 4, nil, api.ErrState)
@@ -261,6 +263,39 @@ func TestTakeOver(t *testing.T) {
 	do(t, c, cluster.StepControl, 1)
 	if c.Claim() != (api.Claim{Epoch: 2, Who: 1, Until: until + 42}) || len(c.Jobs()) != 1 {
 		t.Error(c.Claim())
+	}
+}
+
+func TestTheOtherControllerIsHeard(t *testing.T) {
+	c := made(t, one, 3)
+	do(t, c, cluster.BootControl, 0)
+	do(t, c, cluster.StepControl, 0)
+	do(t, c, cluster.CrashControl, 0)
+	do(t, c, cluster.BootControl, 1)
+	do(t, c, cluster.BootNode, 0)
+	do(t, c, cluster.Tick, 42)
+	asks(t, c, 1, submit(1, 1, 5), api.OK)
+	for range 12 { // as in a round, but without controller 0
+		do(t, c, cluster.Tick, 1)
+		do(t, c, cluster.StepControl, 1)
+		do(t, c, cluster.StepNode, 0)
+		do(t, c, cluster.StepClient, 1)
+		for c.Packets() > 0 {
+			do(t, c, cluster.Deliver, 0)
+		}
+	}
+	if j := c.Jobs(); c.Claim().Who != 1 || len(c.Heard(1)) != 1 || len(j) != 1 || j[0].Life.State != api.Done {
+		t.Error(c.Claim(), c.Heard(1), j)
+	}
+}
+
+func TestKindsOfActs(t *testing.T) {
+	kinds := []int{cluster.Tick, cluster.BootControl, cluster.CrashControl, cluster.StepControl, cluster.BootNode, cluster.CrashNode, cluster.StepNode, cluster.StepClient,
+		cluster.Deliver, cluster.Drop, cluster.Double, cluster.Spoil, cluster.Cut, cluster.Ask, cluster.Calm}
+	for i, kind := range kinds {
+		if kind != i+1 {
+			t.Error(kind, i+1)
+		}
 	}
 }
 

@@ -455,7 +455,7 @@ func TestHearAsk(t *testing.T) {
 	sends(t, c.Hear(ask(1, never), 2), reply(1, 2, api.ErrNever, 0, 0))
 	sends(t, c.Hear(ask(1, submit(2, job(1, 5, 0))), 2), reply(1, 2, api.ErrNever, 0, 0)) // this Seq was refused
 	sends(t, c.Hear(ask(1, first), 2))
-	for i, body := range [][]byte{nil, {1}, append(event.Put(nil, submit(3+1, job(1, 5, 0))), 0), event.Put(nil, api.Event{Kind: api.EvPass, Tick: 9}), event.Put(nil, submit(99, job(1, 5, 0))),
+	for i, body := range [][]byte{nil, {1}, append(event.Put(nil, submit(5, job(1, 5, 0))), 0), event.Put(nil, api.Event{Kind: api.EvPass, Tick: 9}), event.Put(nil, submit(99, job(1, 5, 0))),
 		event.Put(nil, api.Event{Kind: api.EvDrain, Client: 2, Seq: 8})} {
 		m := api.Message{Kind: api.MsgAsk, Epoch: 1, Client: 1, Seq: 3 + i, Body: body}
 		sends(t, c.Hear(m, 3), reply(1, 3+i, api.ErrEvent, 0, 0))

@@ -194,6 +194,38 @@ func TestFinish(t *testing.T) {
 	}
 }
 
+func TestResultsAreInOrder(t *testing.T) {
+	g := deps.New()
+	for _, id := range []int{9, 5} {
+		g.Add(id, nil)
+	}
+	for _, id := range []int{7, 3, 8, 2} {
+		g.Add(id, []int{9})
+	}
+	g.Add(6, []int{8, 5})
+	g.Add(1, []int{3})
+	if r, d, e := g.Finish(9, true); !slices.Equal(r, []int{2, 3, 7, 8}) || d != nil || e != api.OK {
+		t.Error(r, d, e)
+	}
+	g.Add(4, []int{8, 3, 2})
+	if got := g.Waits(4); !slices.Equal(got, []int{2, 3, 8}) {
+		t.Error(got)
+	}
+	if r, d, e := g.Finish(8, false); r != nil || !slices.Equal(d, []int{4, 6}) || e != api.OK {
+		t.Error(r, d, e)
+	}
+	g = deps.New()
+	g.Add(9, nil)
+	for _, id := range []int{7, 3, 8} {
+		g.Add(id, []int{9})
+	}
+	g.Add(1, []int{8})
+	g.Add(4, []int{3})
+	if r, d, e := g.Finish(9, false); r != nil || !slices.Equal(d, []int{1, 3, 4, 7, 8}) || e != api.OK {
+		t.Error(r, d, e)
+	}
+}
+
 func TestRefusedChangesNothing(t *testing.T) {
 	g := deps.New()
 	g.Add(1, nil)

@@ -195,6 +195,11 @@ func TestOpen(t *testing.T) {
 	if e != api.OK || j.Len() != len(whole) || !bytes.Equal(d.Log(), whole) || !bytes.Equal(tab.Put(), made(t, lead(2), back(0, 0), pass(1)).Put()) {
 		t.Fatal(e)
 	}
+	for _, epoch := range []int{0, 1, 2, 4, 5} {
+		if j, tab, e := journal.Open(d, epoch, f); j != nil || tab != nil || e != api.ErrFenced {
+			t.Error("nothing to chop", epoch, e)
+		}
+	}
 	if j, tab, e = journal.Open(led(1, 99), 1, f); e != api.OK || j.Len() != 0 || tab.Tick() != -1 {
 		t.Error(e)
 	}

@@ -183,6 +183,14 @@ func TestNet(t *testing.T) {
 	if !n.Spoil(0, 0) || !n.Spoil(0, 9) || !n.Spoil(0, 23) {
 		t.Error("Spoil")
 	}
+	for bit := range 24 {
+		one := net.New()
+		one.Send(3, []byte("one"))
+		want := []byte("one")
+		want[bit/8] ^= 1 << (bit % 8)
+		one.Spoil(0, bit)
+		holds(t, one, string(want))
+	}
 	for _, bit := range []int{-1, 24, math.MaxInt, math.MinInt} {
 		if n.Spoil(0, bit) {
 			t.Error(bit)

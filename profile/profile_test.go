@@ -142,6 +142,11 @@ func TestAtAndFree(t *testing.T) {
 			t.Error(c, got)
 		}
 	}
+	q := profile.New(api.Vec{4})
+	do(t, q, call{false, 0, 1, api.Vec{3}, api.OK}, call{false, end - 1, end, api.Vec{2}, api.OK})
+	if q.Free(-9, 1) != (api.Vec{1}) || q.Free(0, 1) != (api.Vec{1}) || q.At(0) != (api.Vec{1}) || q.Free(1, end-1) != (api.Vec{4}) || q.Free(1, end) != (api.Vec{2}) || q.Free(end-1, end+9) != (api.Vec{2}) {
+		t.Error("at the ends", q.Steps())
+	}
 	p.Steps()[0].Free[0] = 99
 	if p.At(0) != (api.Vec{4, 4}) {
 		t.Error("Steps shares memory")

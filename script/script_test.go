@@ -153,6 +153,34 @@ func TestRoom(t *testing.T) {
 	tells(t, "room -1\n"+head+text("calm 9", "show claim"), "claim 9 0 49")
 }
 
+// TestUsualRoom nearly fills a disk with held jobs, whose snapshot takes even more, and sends small requests until it is full to the byte.
+func TestUsualRoom(t *testing.T) {
+	spec := "user=abcdefghijklmnop part=main nodes=1 demand=1000000000,1000000000,1000000000,1000000000 wall=1000 prio=100 retries=5 held=1"
+	eight := "ask 1 submit " + spec + strings.Repeat(" + "+spec, 7)
+	story := "node n1 1000000000,1000000000,1000000000,1000000000 main\n" + strings.Repeat(eight+"\ncalm 4\n", 8)
+	less, more := 0, 0
+	for size := 115; size < 125; size++ { // in bytes beyond the least: at one of these a request just fits
+		last := story
+		for i := range 16 {
+			user := strings.Repeat("a", 1+min(max(size-15*i, 0), 15))
+			last += "ask 2 submit " + strings.Replace(spec, "abcdefghijklmnop", user, 1) + "\ncalm 4\n"
+		}
+		last += "show heard 1\nshow heard 2"
+		usual, _, _ := script.Run(last)
+		a, _, _ := script.Run("room 9999\n" + last)
+		b, _, _ := script.Run("room 10001\n" + last)
+		if !slices.Equal(usual, a) {
+			less++
+		}
+		if !slices.Equal(usual, b) {
+			more++
+		}
+	}
+	if less == 0 || more == 0 {
+		t.Error("no request was just large enough", less, more)
+	}
+}
+
 func TestTakeOver(t *testing.T) {
 	tells(t, head+text("boot control 0", "boot control 1", "step control 0", "cut 2", "boot node n1", "step node n1", "deliver 0", "show claim",
 		"tick 41", "step control 1", "show claim", "tick 1", "step control 1", "show claim"),

@@ -52,8 +52,13 @@ func TestNewClient(t *testing.T) {
 			t.Error(id)
 		}
 	}
-	is(t, session.NewClient(1), 0, 0, false)
-	is(t, session.NewClient(16), 0, 0, false)
+	for _, id := range []int{1, 16} {
+		c := session.NewClient(id)
+		if c == nil {
+			t.Fatal(id)
+		}
+		is(t, c, 0, 0, false)
+	}
 }
 
 func TestAsk(t *testing.T) {
@@ -155,8 +160,8 @@ func TestNewServer(t *testing.T) {
 			t.Error(epoch)
 		}
 	}
-	if session.NewServer(1<<40) == nil {
-		t.Error("the greatest epoch")
+	if session.NewServer(1) == nil || session.NewServer(1<<40) == nil {
+		t.Error("the least and the greatest epoch")
 	}
 	if session.Skip != 0 || session.Answer != 1 || session.Do != 2 {
 		t.Error("the kinds' numbers")

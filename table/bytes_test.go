@@ -137,6 +137,41 @@ func TestTake(t *testing.T) {
 	is(t, tab, 5, api.Cancelled, 1, -1) // job 7 is cancelled: the first event that settles dooms job 5
 }
 
+func TestTakeAtTheBounds(t *testing.T) {
+	f := machines(t, someFleet)
+	for i, change := range []func(m *image){
+		func(m *image) { m.head[0], m.head[1] = 0, -1 }, func(m *image) { m.head[0], m.head[1] = 1<<40, api.MaxTick-1 },
+		func(m *image) { m.head[4], m.head[5], m.head[6] = 1, 0, 0 }, func(m *image) { m.head[4], m.head[5], m.head[6] = 1<<40, 100, 100 },
+		func(m *image) { m.nodes[2], m.nodes[5] = -1, api.MaxTick-1 }, func(m *image) { m.nodes[0], m.nodes[1] = 0, 1 },
+		func(m *image) { m.jobs = nil }, func(m *image) { m.head = []int{0, -1, 0} },
+		func(m *image) {
+			for len(m.jobs) < 100 {
+				m.jobs = append(m.jobs, m.jobs[6])
+			}
+			m.jobs[3].after = []int{1, 100}
+		},
+		func(m *image) { m.jobs[2].hows = []int{0, 3} }, func(m *image) { m.jobs[2].hows = []int{1, 0} },
+	} {
+		m := some()
+		change(&m)
+		if tab, e := table.Take(f, m.bytes()); e != api.OK || !bytes.Equal(tab.Put(), m.bytes()) {
+			t.Error(i, e)
+		}
+	}
+}
+
+func TestAPromiseThatIsNoneAnyMore(t *testing.T) {
+	m := some()
+	m.jobs[4].after = []int{2} // which runs: job 5 may have no promise behind the next pass
+	tab, e := table.Take(machines(t, someFleet), m.bytes())
+	if e != api.OK {
+		t.Fatal(e)
+	}
+	is(t, tab, 5, api.Pending, 1, 40, 1)
+	must(t, tab, pass(21))
+	is(t, tab, 5, api.Pending, 1, -1)
+}
+
 func TestTakeOfWhatMayNotBe(t *testing.T) {
 	f := machines(t, someFleet)
 	set := func(l *[]int, i, n int) {
@@ -167,7 +202,7 @@ func TestTakeOfWhatMayNotBe(t *testing.T) {
 		func(m *image) { set(&m.jobs[2].life, 3, 2) }, func(m *image) { set(&m.jobs[2].life, 4, -1) }, func(m *image) { set(&m.jobs[1].life, 3, 1) },
 		func(m *image) { set(&m.jobs[0].life, 5, -1); m.jobs[0].gang = nil }, func(m *image) { set(&m.jobs[8].life, 5, -1); m.jobs[8].gang = nil }, func(m *image) { set(&m.jobs[9].life, 5, -1); m.jobs[9].gang = nil },
 		func(m *image) { set(&m.jobs[1].life, 5, -1); m.jobs[1].gang = nil }, func(m *image) { set(&m.jobs[1].life, 5, -1); m.jobs[1].gang, m.jobs[1].hows = nil, nil },
-		func(m *image) { set(&m.jobs[0].life, 5, -1) }, func(m *image) { set(&m.jobs[0].life, 5, -2) }, func(m *image) { m.jobs[0].gang = nil }, func(m *image) { m.jobs[3].gang = []int{0} },
+		func(m *image) { set(&m.jobs[0].life, 5, -1) }, func(m *image) { set(&m.jobs[0].life, 5, -2) }, func(m *image) { set(&m.jobs[3].life, 5, -2) }, func(m *image) { set(&m.jobs[6].life, 5, -2) }, func(m *image) { m.jobs[0].gang = nil }, func(m *image) { m.jobs[3].gang = []int{0} },
 		func(m *image) { set(&m.jobs[8].life, 5, api.MaxTick-12) }, func(m *image) { set(&m.jobs[8].life, 5, 1<<62) }, func(m *image) { set(&m.jobs[8].life, 5, 1<<63-1) },
 		func(m *image) { m.jobs[0].gang = []int{0, 1} }, func(m *image) { m.jobs[0].gang = []int{2} }, func(m *image) { m.jobs[0].gang = []int{-1} }, func(m *image) { m.jobs[2].gang = []int{1, 0} }, func(m *image) { m.jobs[2].gang = []int{0, 0} },
 		func(m *image) { m.jobs[0].text = "user=ana part=b nodes=1 demand=1,0,0,0 wall=5" },

@@ -44,7 +44,6 @@ func (t *Table) pass(e api.Event) api.Reply {
 
 func start(j *api.Job) {
 	sign(j, api.SignStart)
-	j.Parts = nil
 	for _, i := range j.Gang {
 		j.Parts = append(j.Parts, api.Part{Node: i})
 	}

@@ -242,6 +242,16 @@ func TestSubmitBehindALostJob(t *testing.T) {
 	is(t, tab, 3, api.Cancelled, 0, -1)
 }
 
+func TestDoomGoesOn(t *testing.T) {
+	tab := one(t)
+	must(t, tab, submit(t, short+" after=-2", short+" held=1 after=-3", short, short+" after=-1", short+" held=1"))
+	must(t, tab, on(api.EvCancel, 3))
+	for id := 1; id <= 4; id++ {
+		is(t, tab, id, api.Cancelled, 0, -1)
+	}
+	is(t, tab, 5, api.Held, 0, -1)
+}
+
 func TestCancelHoldRelease(t *testing.T) {
 	tab := two(t)
 	must(t, tab, submit(t, short+" array=4", short+" after=-1", short+" after=-2"))
